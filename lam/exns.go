@@ -13,7 +13,7 @@ func exnsMay(l []api.Con) bool {
 			return false
 		}
 	}
-	return areNumbered(l) && haveNames(l)
+	return areOfOne(l) && areNumbered(l) && haveNames(l)
 }
 
 // builtIn tells the exceptions that come first.
@@ -32,6 +32,16 @@ func isBuiltIn(x, known api.Con) bool {
 	}
 	for i, t := range x.Of {
 		if t.V != 0 || t.S != known.Of[i].S || len(t.L) > 0 {
+			return false
+		}
+	}
+	return true
+}
+
+// areOfOne tells whether each is without anything, or of one type: a source can't say another one.
+func areOfOne(l []api.Con) bool {
+	for _, x := range l {
+		if len(x.Of) > 1 {
 			return false
 		}
 	}

@@ -31,7 +31,7 @@ func exnsPlainly(l []api.Con) bool {
 		if i < 6 && (x.Name != known[i].Name || len(x.Of) != len(known[i].Of)) || i == 5 && (x.Of[0].S != "string" || x.Of[0].V != 0 || len(x.Of[0].L) != 0) {
 			return false
 		}
-		if x.Name == "" || names[x.Name] {
+		if x.Name == "" || names[x.Name] || len(x.Of) > 1 {
 			return false
 		}
 		names[x.Name] = true
