@@ -121,16 +121,11 @@ func TestTooGreat(t *testing.T) {
 	refused(t, program(deep(2000, num(1), func(_ int, c api.Lam) api.Lam { return op(api.OpNeg, c) })))
 	refused(t, program(deep(1<<16, num(1), func(_ int, c api.Lam) api.Lam { return of(api.LSeq, 0, num(1), c) })))
 	refused(t, program(block(0, slices.Repeat([]api.Lam{block(0, slices.Repeat([]api.Lam{num(1)}, 4000)...)}, 5)...)))
-	c, of := num(1), []api.Type{{S: "int"}}
+	c := num(1)
 	for range 60 {
-		c, of = add(c, c), []api.Type{{S: "*", L: []api.Type{of[0], of[0]}}}
+		c = add(c, c)
 	}
 	refused(t, program(c))
-	p := program(num(1))
-	p.Exns[7].Of = of
-	if q, e := simp.Of(p); e != api.ErrForm || q.Exns != nil || !simp.Clean(p) { // there is no room for them anew
-		t.Errorf("%d", e)
-	}
 	c = num(1)
 	for range 13 {
 		c = add(c, c)
@@ -139,21 +134,4 @@ func TestTooGreat(t *testing.T) {
 	parts := []api.Lam{add(at(1), num(1))} // in two places, of which each has other variables around
 	neg := api.Lam{Kind: api.LOp, N: api.OpNeg, L: parts}
 	becomes(t, block(0, let(1, num(5), neg), let(1, read(), neg), let(1, num(7), neg)), block(0, num(-6), let(1, read(), op(api.OpNeg, add(at(1), num(1)))), num(-8)), "4")
-}
-
-// P15.1: the exceptions stay as they are, however great their types are.
-func TestGreatTypes(t *testing.T) {
-	p := program(num(1))
-	of := []api.Type{{V: 1, S: "a", L: make([]api.Type, 200000)}}
-	for range 1 << 16 {
-		of = []api.Type{{S: "list", L: of}}
-	}
-	p.Exns[7].Of = of
-	if q, e := simp.Of(p); e != api.OK || !sameTypes(q.Exns[7].Of, of) || !simp.Clean(p) {
-		t.Errorf("%d", e)
-	}
-}
-
-func sameTypes(a, b []api.Type) bool {
-	return slices.EqualFunc(a, b, func(a, b api.Type) bool { return a.V == b.V && a.S == b.S && sameTypes(a.L, b.L) })
 }
